@@ -17,3 +17,8 @@ def ascends(parts, index):
     Ask this only of parts that are known to have the right form: Python compares not all values.
     """
     return index == 0 or parts[index - 1] < parts[index]
+
+
+def set_of(rows):
+    """The set of the rows of a list: a strictly ascending tuple."""
+    return tuple(sorted(set(rows)))

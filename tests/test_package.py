@@ -1,6 +1,8 @@
 """The interface as a whole: where its names stand, their arguments, and the form of the files."""
 
 import ast
+import builtins
+import doctest
 import importlib
 import inspect
 import os
@@ -9,7 +11,7 @@ import unittest
 ROOT = os.path.dirname(os.path.dirname(os.path.abspath(__file__)))
 PACKAGE = os.path.join(ROOT, "backasked")
 
-# What has landed of the interface: file, name, arguments in their order.
+# What has landed of the interface: file, name, arguments in their order; those after "*" are given by name alone.
 LISTED = (
     ("errors", "InvalidStore", ("index",)),
     ("errors", "InvalidQuestion", ("part",)),
@@ -32,7 +34,32 @@ LISTED = (
     ("questions", "known_by", ("questions",)),
     ("questions", "question_of", ("kinds", "kind")),
     ("questions", "no_ban", ()),
+    ("answers", "body_with", ("part", "values")),
+    ("answers", "head_with", ("part", "values")),
+    ("answers", "holds", ("part", "values", "store")),
+    ("answers", "values_for", ("part", "store")),
+    ("answers", "answers", ("question", "store")),
+    ("answers", "keeps", ("ban", "store")),
+    ("programs", "require_program", ("kinds", "value")),
+    ("programs", "is_met", ("deed", "fact")),
+    ("programs", "done", ("deed", "store")),
+    ("programs", "run", ("program", "store")),
+    ("leading", "cases", ("deed", "atom")),
+    ("leading", "normal", ("part",)),
+    ("leading", "led_back", ("program", "question", "*", "tries")),
+    ("leading", "choices_at", ("deed", "question")),
+    ("ways", "ways_of", ("part", "known")),
+    ("ways", "way_like", ("part", "values", "known")),
+    ("ways", "facts_of", ("part", "values")),
 )
+# The values of arguments that are not given.
+DEFAULTS = {"tries": 300}
+# LANGUAGE.md, L8: the builtins that may be used, as far as the package does; L25: the methods of builtin values.
+BUILTINS = ("len", "range", "enumerate", "zip", "min", "max", "sum", "abs", "sorted", "reversed", "int", "str", "bool",
+            "list", "tuple", "dict", "set", "isinstance", "any", "all", "type", "ValueError", "RuntimeError",
+            "OverflowError")
+METHODS = {"append", "clear", "copy", "count", "extend", "get", "index", "insert", "items", "keys", "pop", "setdefault",
+           "update", "values"}
 # LANGUAGE.md, L2 The library: nothing else from outside may be imported.
 OUTSIDE = ("__future__", "heapq", "math", "itertools", "collections")
 
@@ -59,11 +86,13 @@ class InterfaceTest(unittest.TestCase):
         for file, name, arguments in LISTED:
             with self.subTest(name=name):
                 found = getattr(importlib.import_module("backasked." + file), name)
-                parameters = inspect.signature(found).parameters.values()
-                self.assertEqual(tuple(each.name for each in parameters), arguments)
-                for each in parameters:
-                    self.assertEqual(each.kind, inspect.Parameter.POSITIONAL_OR_KEYWORD)
-                    self.assertIs(each.default, inspect.Parameter.empty)
+                parameters = list(inspect.signature(found).parameters.values())
+                self.assertEqual([each.name for each in parameters], [word for word in arguments if word != "*"])
+                free = arguments.index("*") if "*" in arguments else len(arguments)
+                for place, each in enumerate(parameters):
+                    by_place = inspect.Parameter.POSITIONAL_OR_KEYWORD
+                    self.assertEqual(each.kind, by_place if place < free else inspect.Parameter.KEYWORD_ONLY)
+                    self.assertEqual(each.default, DEFAULTS.get(each.name, inspect.Parameter.empty))
 
 
 class FilesTest(unittest.TestCase):
@@ -90,6 +119,51 @@ class FilesTest(unittest.TestCase):
             for node in ast.walk(ast.parse(text)):
                 if isinstance(node, ast.FunctionDef):
                     self.assertLessEqual(node.end_lineno - node.lineno + 1, 40, (name, node.name))
+
+    def test_builtins_and_methods(self):
+        trees = {name: ast.parse(source(name)) for name in package_files()}
+        own = {node.name for tree in trees.values() for node in ast.walk(tree) if isinstance(node, ast.FunctionDef)}
+        for name, tree in trees.items():
+            for node in ast.walk(tree):
+                if isinstance(node, ast.Name) and hasattr(builtins, node.id):
+                    self.assertIn(node.id, BUILTINS, name)
+                    self.assertIsInstance(node.ctx, ast.Load, name)
+                if isinstance(node, ast.arg):
+                    self.assertFalse(hasattr(builtins, node.arg), (name, node.arg))
+                if isinstance(node, ast.Call) and isinstance(node.func, ast.Attribute):
+                    self.assertIn(node.func.attr, own | METHODS | {"__init__"}, name)
+
+    def test_names_inside_functions(self):
+        # LANGUAGE.md, L15: none is that of a class or an import of its file; L12: _ is never read.
+        for name in package_files():
+            tree = ast.parse(source(name))
+            taken = {node.name for node in tree.body if isinstance(node, ast.ClassDef)}
+            taken |= {each.name for node in tree.body if isinstance(node, ast.ImportFrom) for each in node.names}
+            for node in ast.walk(tree):
+                if isinstance(node, ast.arg):
+                    self.assertNotIn(node.arg, taken, name)
+                if isinstance(node, ast.Name):
+                    self.assertFalse(isinstance(node.ctx, ast.Store) and node.id in taken, (name, node.id))
+                    self.assertFalse(isinstance(node.ctx, ast.Load) and node.id == "_", name)
+
+    def test_sets_are_sorted_or_asked(self):
+        # LANGUAGE.md, L24: the order of a set's members is nowhere to be seen.
+        for name in package_files():
+            tree = ast.parse(source(name))
+            sorted_ones = [node.args[0] for node in ast.walk(tree) if isinstance(node, ast.Call)
+                           and isinstance(node.func, ast.Name) and node.func.id in ("sorted", "len")]
+            kept = [node.value for node in ast.walk(tree) if isinstance(node, ast.Assign)]
+            for node in ast.walk(tree):
+                made = isinstance(node, ast.Call) and isinstance(node.func, ast.Name) and node.func.id == "set"
+                if made or isinstance(node, (ast.Set, ast.SetComp)):
+                    self.assertTrue(any(node is each for each in sorted_ones + kept), (name, node.lineno))
+
+
+class ReadmeTest(unittest.TestCase):
+    def test_examples(self):
+        told = doctest.testfile(os.path.join(ROOT, "README.md"), module_relative=False)
+        self.assertGreater(told.attempted, 5)
+        self.assertEqual(told.failed, 0)
 
 
 if __name__ == "__main__":
