@@ -4,7 +4,7 @@ from backasked.answers import answers
 from backasked.errors import InvalidProgram
 from backasked.forms import is_tuple, set_of
 from backasked.questions import are_atoms, are_pairs, are_terms, is_atom
-from backasked.terms import are_unlike, put_in
+from backasked.terms import are_unlike, matched, put_in
 
 LEAST_VARIABLE = -4
 MOST_DEEDS = 4
@@ -73,22 +73,10 @@ def require_program(kinds, value):
     return value
 
 
-def put_in_for(atom, fact):
-    """The dict of what is put in for an atom's variables where it is the fact, or None where it is not."""
-    if atom[0] != fact[0]:
-        return None
-    chosen = {}
-    for term, thing in zip(atom[1], fact[1]):
-        if term >= 0 and term != thing:
-            return None
-        if term < 0 and chosen.setdefault(term, thing) != thing:
-            return None
-    return chosen
-
-
 def met_with(deed, fact):
     """The dict of what is put in where a take or a turn meets the fact, or None where it does not."""
-    chosen = put_in_for(deed[1], fact)
+    kind, terms = deed[1]
+    chosen = matched(terms, fact[1], {}) if kind == fact[0] else None
     if chosen is None or not are_unlike(deed[2], chosen):
         return None
     return chosen

@@ -50,8 +50,13 @@ def is_part(kinds, arity, value):
     head, body, unlike = value
     if not are_terms(head, arity) or not are_atoms(kinds, body, MOST_ATOMS) or not are_pairs(unlike):
         return False
-    variables = variables_of(value)
-    return all([term >= 0 or term in variables for term in terms_of(value)])
+    return is_bound(value)
+
+
+def is_bound(part):
+    """Whether each variable of a part's head and pairs stands in its body."""
+    variables = variables_of(part)
+    return all([term >= 0 or term in variables for term in terms_of(part)])
 
 
 def require_question(kinds, value):

@@ -18,3 +18,14 @@ def are_unlike(pairs, chosen):
         if one == other:
             return False
     return True
+
+
+def matched(terms, things, chosen):
+    """The dict of what is chosen, and of what has to be chosen besides for the terms to be the things; None if none."""
+    longer = dict(chosen)
+    for term, thing in zip(terms, things):
+        if term >= 0 and term != thing:
+            return None
+        if term < 0 and longer.setdefault(term, thing) != thing:
+            return None
+    return longer

@@ -40,6 +40,22 @@ def ways_of(part, known):
     yield from ways_after(variables, unlike, known, ())
 
 
+def ways_by_part(question, known, most):
+    """For each part of a question the tuple of its ways; None if there are more than most, all parts together."""
+    found = []
+    total = 0
+    for part in question[1]:
+        of_part = []
+        for values in ways_of(part, known):
+            # Nothing is looked at behind the limit: a part may have millions of ways.
+            total = total + 1
+            if total > most:
+                return None
+            of_part.append(values)
+        found.append(tuple(of_part))
+    return tuple(found)
+
+
 def way_like(part, values, known):
     """The only way of a part that is like values whose pairs are unlike."""
     names = {}

@@ -33,6 +33,27 @@ def model_values(part, store):
     return tuple(found)
 
 
+def are_unlike(part, values):
+    chosen = dict(zip(model_variables(part[1]), values))
+    return all(chosen.get(one, one) != chosen.get(other, other) for one, other in part[2])
+
+
+def is_way(part, values, known):
+    """Whether each value is known, or stands before it, or is the least new thing that does not."""
+    for place, value in enumerate(values):
+        fresh = [thing for thing in range(30) if thing not in known and thing not in values[:place]]
+        if value not in known and value not in values[:place] and value != fresh[0]:
+            return False
+    return are_unlike(part, values)
+
+
+def model_ways(part, known):
+    """All ways of a part, ascending: those of all values that are ways."""
+    many = len(model_variables(part[1]))
+    things = range(max([0, *known]) + many + 2)
+    return [values for values in itertools.product(things, repeat=many) if is_way(part, values, known)]
+
+
 def model_answers(question, store):
     """The set of all answers of a question on a store."""
     found = set()

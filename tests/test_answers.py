@@ -3,6 +3,7 @@
 import itertools
 import unittest
 
+from builders import ban_of, part_of
 from models import Draws, model_answers, model_values, stores_over
 from variations import Unchanged, shape
 
@@ -12,14 +13,6 @@ from backasked.questions import no_ban, variables_of
 KINDS = (2, 1, 0)
 PART = ((-1,), ((0, (-1, -2)), (0, (-2, 3))), ((-2, 5),))
 STORE = ((0, (1, 2)), (0, (2, 2)), (0, (2, 3)), (0, (3, 1)), (1, (2,)), (1, (3,)), (2, ()))
-
-
-def part_of(*body, head=(), unlike=()):
-    return (head, body, unlike)
-
-
-def ban_of(*body, unlike=()):
-    return (0, (part_of(*body, unlike=unlike),))
 
 
 class ExamplesTest(unittest.TestCase):

@@ -2,39 +2,19 @@
 
 import unittest
 
-from models import Draws, model_answers, model_run, stores_over
+from builders import ban_of, part_of, put, take, turn
+from models import Draws
 from variations import Unchanged, shape
 
 from backasked.answers import answers
 from backasked.errors import LimitExceeded
 from backasked.leading import cases, choices_at, led_back, normal
-from backasked.programs import require_program, run
-from backasked.questions import known_things, no_ban, question_of, require_question
+from backasked.questions import no_ban, question_of, require_question
 
 KINDS = (2, 1, 0)
 LOOPS = ("put", (0, (-1, -1)), ((1, (-1,)),), ())
 DROP = ("take", (0, (-1, 3)), ())
 SWAP = ("turn", (0, (-1, -2)), ((-2, 3),), (-2, -1))
-
-
-def put(atom, *body, unlike=()):
-    return ("put", atom, body, unlike)
-
-
-def take(atom, *unlike):
-    return ("take", atom, unlike)
-
-
-def turn(atom, terms, *unlike):
-    return ("turn", atom, unlike, terms)
-
-
-def part_of(*body, head=(), unlike=()):
-    return (head, body, unlike)
-
-
-def ban_of(*body, unlike=()):
-    return (0, (part_of(*body, unlike=unlike),))
 
 
 class CasesTest(unittest.TestCase):

@@ -51,6 +51,24 @@ LISTED = (
     ("ways", "ways_of", ("part", "known")),
     ("ways", "way_like", ("part", "values", "known")),
     ("ways", "facts_of", ("part", "values")),
+    ("comparing", "is_within", ("first", "second", "ban", "*", "tries")),
+    ("comparing", "parting", ("first", "second", "ban", "*", "tries")),
+    ("comparing", "are_alike", ("one", "other", "ban", "*", "tries")),
+    ("trimming", "is_needless", ("question", "index", "place", "ban", "*", "tries")),
+    ("trimming", "trimmed", ("question", "ban", "*", "tries")),
+    ("trimming", "guard", ("program", "other", "ban", "*", "tries")),
+    ("judging", "is_kept", ("program", "other", "ban", "*", "tries")),
+    ("judging", "are_same", ("kinds", "one", "other", "ban", "*", "tries")),
+    ("judging", "is_untouched", ("program", "question", "ban", "*", "tries")),
+    ("judging", "is_idle", ("kinds", "program", "index", "ban", "*", "tries")),
+    ("judging", "can_exchange", ("kinds", "program", "index", "ban", "*", "tries")),
+    ("judging", "is_settled", ("kinds", "program", "ban", "*", "tries")),
+    ("mends", "require_wishes", ("kinds", "value")),
+    ("mends", "require_options", ("kinds", "program", "value")),
+    ("mends", "choices", ("program", "options")),
+    ("mends", "with_choice", ("program", "options", "choice")),
+    ("mends", "keeps_wish", ("kinds", "program", "wish", "ban", "*", "tries")),
+    ("mends", "cheapest_mend", ("kinds", "program", "wishes", "options", "ban", "*", "tries")),
 )
 # The values of arguments that are not given.
 DEFAULTS = {"tries": 300}
@@ -58,7 +76,7 @@ DEFAULTS = {"tries": 300}
 BUILTINS = ("len", "range", "enumerate", "zip", "min", "max", "sum", "abs", "sorted", "reversed", "int", "str", "bool",
             "list", "tuple", "dict", "set", "isinstance", "any", "all", "type", "ValueError", "RuntimeError",
             "OverflowError")
-METHODS = {"append", "clear", "copy", "count", "extend", "get", "index", "insert", "items", "keys", "pop", "setdefault",
+METHODS = {"add", "append", "clear", "copy", "count", "extend", "get", "index", "insert", "items", "keys", "pop", "setdefault",
            "update", "values"}
 # LANGUAGE.md, L2 The library: nothing else from outside may be imported.
 OUTSIDE = ("__future__", "heapq", "math", "itertools", "collections")

@@ -3,6 +3,7 @@
 import itertools
 import unittest
 
+from builders import put, take, turn
 from models import Draws, model_done, model_run, stores_over
 from variations import OTHER_VALUES, Unchanged, deep, exchanged, of_other_kinds, same_but_wrong, shape
 
@@ -15,18 +16,6 @@ PUT = ("put", (0, (-1, 1)), ((0, (-1, 0)), (1, (1,))), ((-1, 0), (0, 1)))
 TAKE = ("take", (0, (-1, 1)), ((-1, 0), (-1, 1)))
 TURN = ("turn", (0, (-1, 0)), ((-1, 1), (0, 1)), (1, -1))
 PLAIN = ("take", (2, ()), ())
-
-
-def put(atom, *body, unlike=()):
-    return ("put", atom, body, unlike)
-
-
-def take(atom, *unlike):
-    return ("take", atom, unlike)
-
-
-def turn(atom, terms, *unlike):
-    return ("turn", atom, unlike, terms)
 
 
 class ProgramCase(unittest.TestCase):

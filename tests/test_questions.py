@@ -3,6 +3,7 @@
 import itertools
 import unittest
 
+from builders import ban_of
 from variations import OTHER_VALUES, Unchanged, at, deep, exchanged, of_other_kinds, places, same_but_wrong, shape
 
 from backasked.errors import InvalidQuestion
@@ -17,11 +18,6 @@ RICH = (1, (
     ((1,), ((1, (1,)),), ()),
 ))
 EMPTY_PART = ((), (), ())
-
-
-def ban_of(*body, unlike=()):
-    """A ban of one part."""
-    return (0, (((), body, unlike),))
 
 
 def many_parts(many):

@@ -4,7 +4,8 @@ import inspect
 import itertools
 import unittest
 
-from models import Draws, model_variables
+from builders import part_of
+from models import Draws, are_unlike, model_variables, model_ways
 from variations import Unchanged, shape
 
 from backasked.answers import holds, keeps
@@ -14,31 +15,6 @@ from backasked.ways import facts_of, way_like, ways_of
 
 KINDS = (2, 1, 0)
 WIDE = ((), ((0, (-1, -2)), (0, (-3, -4)), (0, (-5, -6)), (0, (-7, -8))), ())
-
-
-def part_of(*body, head=(), unlike=()):
-    return (head, body, unlike)
-
-
-def are_unlike(part, values):
-    chosen = dict(zip(model_variables(part[1]), values))
-    return all(chosen.get(one, one) != chosen.get(other, other) for one, other in part[2])
-
-
-def is_way(part, values, known):
-    """Whether each value is known, or stands before it, or is the least new thing that does not."""
-    for place, value in enumerate(values):
-        fresh = [thing for thing in range(30) if thing not in known and thing not in values[:place]]
-        if value not in known and value not in values[:place] and value != fresh[0]:
-            return False
-    return are_unlike(part, values)
-
-
-def model_ways(part, known):
-    """All ways of a part, ascending: those of all values that are ways."""
-    many = len(model_variables(part[1]))
-    things = range(max([0, *known]) + many + 2)
-    return [values for values in itertools.product(things, repeat=many) if is_way(part, values, known)]
 
 
 def are_like(one, other, known):
