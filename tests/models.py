@@ -151,3 +151,47 @@ class Draws:
     def program(self, kinds, terms, most):
         """A program of 1 to so many deeds."""
         return tuple(self.deed(kinds, terms) for _ in range(1 + self.below(most)))
+
+    def wish(self, kinds, program, terms):
+        word = self.one_of(("keeps", "same", "leads", "spares"))
+        if word == "keeps":
+            return (word, self.question(kinds, 0, terms, 2))
+        if word == "same":
+            return (word, self.one_of((program, program[1:], program[:-1], self.program(kinds, terms, 2))))
+        store = self.store(kinds, (0, 1, 5), 6)
+        extra = [(kind, (5,) * many) for kind, many in enumerate(kinds)]
+        return (word, store, self.one_of([*model_run(program, store), *store, *extra]))
+
+    def options(self, kinds, program, terms):
+        found = []
+        for _ in range(1 + self.below(3)):
+            cost = self.one_of((0, 1, 1, 2, 99))
+            if program and self.below(2):
+                found.append(("drop", self.below(len(program)), cost))
+            else:
+                found.append(("put", self.below(len(program) + 1), self.deed(kinds, terms), cost))
+        return tuple(found)
+
+    def ban(self, kinds, terms):
+        return self.question(kinds, 0, terms, 2) if self.below(3) else (0, ())
+
+    def claim(self, kinds=(2, 1), terms=(-1, -2, 0)):
+        """A claim of each word, often one that is not so."""
+        word = self.one_of(("within", "kept", "same", "settled", "untouched", "mend"))
+        ban, program = self.ban(kinds, terms), self.program(kinds, terms, 3)[self.below(2):]
+        if word == "within":
+            arity = self.below(3)
+            return (word, kinds, ban, self.question(kinds, arity, terms, 2), self.question(kinds, arity, terms, 2))
+        if word == "kept":
+            return (word, kinds, ban, program, self.one_of((ban, self.question(kinds, 0, terms, 3))))
+        if word == "same":
+            other = self.one_of((program[1:], program + program[-1:], self.program(kinds, terms, 2)))
+            return (word, kinds, ban, program, other)
+        if word == "settled":
+            # Most drawn programs are settled; one that turns all pairs round seldom is.
+            return (word, kinds, ban, program + self.one_of(((), (("turn", (0, (-1, -2)), (), (-2, -1)),))))
+        if word == "untouched":
+            return (word, kinds, ban, program, self.question(kinds, self.below(3), terms, 2))
+        wishes = tuple(self.wish(kinds, program, terms) for _ in range(1 + self.below(2)))
+        n = self.one_of((0, 0, 0, 1, 1, 2, 99, None))
+        return (word, kinds, ban, program, wishes, self.options(kinds, program, terms), n)

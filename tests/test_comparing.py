@@ -25,9 +25,9 @@ ALL_KNOWN = ban_of(*[(0, (thing, thing + 1)) for thing in (0, 2, 4, 6, 8)])
 # 203 + 52 + 3 * 15 ways.
 THREE_HUNDRED = question_of_parts(
     0, WAYS[203], WAYS[52], WAYS[15], unary(-2, -1, -3, -4), unary(-1, -3, -2, -4))
-# 877 + 2 * 52 + 15 + 2 * 2 ways.
+# 877 + 2 * 52 + 15 + 2 * 2 ways; no two parts have the same normal form.
 THOUSAND = question_of_parts(
-    0, WAYS[877], WAYS[52], unary(-2, -1, -3, -4, -5), WAYS[15], WAYS[2], unary(-2, -1))
+    0, WAYS[877], WAYS[52], part_of((0, (-1, -2)), (0, (-3, -4)), (1, (-5,))), WAYS[15], WAYS[2], part_of((0, (-1, -2))))
 
 
 class ComparingCase(unittest.TestCase):

@@ -6,7 +6,7 @@ import unittest
 
 from builders import DROP, KINDS, LOOPS, NO_LOOPS, SWAP, ban_of, part_of, put, take, turn, unary
 from literal import literal_changed, literal_choices, literal_mend, literal_wish, outcome
-from models import Draws, model_run
+from models import Draws
 from variations import OTHER_VALUES, Unchanged, deep, of_other_kinds, same_but_wrong, shape
 
 from backasked.errors import InvalidOptions, InvalidWishes, LimitExceeded
@@ -315,7 +315,7 @@ class ChangedTest(unittest.TestCase):
         draws = Draws(81)
         for _ in range(300):
             program = draw_program(draws)
-            options = draw_options(draws, program)
+            options = draws.options(KINDS, program, (-1, -2, 0))
             require_options(KINDS, program, options)
             told = list(choices(program, options))
             self.assertEqual(told, literal_choices(program, options))
@@ -326,30 +326,8 @@ class ChangedTest(unittest.TestCase):
         self.assertEqual(with_choice(choice=(0,), options=(drop(0, 3),), program=(LOOPS,)), ())
 
 
-def draw_program(draws, terms=(-1, -2, 0), most=4):
-    return draws.program(KINDS, terms, most)[draws.below(2):]
-
-
-def draw_options(draws, program, terms=(-1, -2, 0)):
-    found = []
-    for _ in range(1 + draws.below(3)):
-        cost = draws.one_of((0, 1, 1, 2, 99))
-        if program and draws.below(2):
-            found.append(drop(draws.below(len(program)), cost))
-        else:
-            found.append(option(draws.below(len(program) + 1), draws.deed(KINDS, terms), cost))
-    return tuple(found)
-
-
-def draw_wish(draws, program, terms=(-1, -2, 0)):
-    word = draws.one_of(("keeps", "same", "leads", "spares"))
-    if word == "keeps":
-        return (word, draws.question(KINDS, 0, terms, 2))
-    if word == "same":
-        return (word, draws.one_of((program, program[1:], program[:-1], draws.program(KINDS, terms, 2))))
-    store = draws.store(KINDS, (0, 1, 5), 6)
-    facts = [*model_run(program, store), *store, (2, ()), (1, (5,))]
-    return (word, store, draws.one_of(facts))
+def draw_program(draws, most=4):
+    return draws.program(KINDS, (-1, -2, 0), most)[draws.below(2):]
 
 
 class WishTest(unittest.TestCase):
@@ -484,8 +462,8 @@ class MendTest(unittest.TestCase):
         counts = {"limit": 0, "none": 0, "empty": 0, "mend": 0}
         for _ in range(300):
             program = draw_program(draws, most=3)
-            options = draw_options(draws, program)
-            wishes = tuple(draw_wish(draws, program) for _ in range(1 + draws.below(2)))
+            options = draws.options(KINDS, program, (-1, -2, 0))
+            wishes = tuple(draws.wish(KINDS, program, (-1, -2, 0)) for _ in range(1 + draws.below(2)))
             require_wishes(KINDS, wishes)
             ban = draws.question(KINDS, 0, (-1, -2, 0), 2) if draws.below(2) else no_ban()
             for tries in (2, 6, 20):

@@ -11,7 +11,7 @@ import unittest
 ROOT = os.path.dirname(os.path.dirname(os.path.abspath(__file__)))
 PACKAGE = os.path.join(ROOT, "backasked")
 
-# What has landed of the interface: file, name, arguments in their order; those after "*" are given by name alone.
+# The interface: file, name, arguments in their order; those after "*" are given by name alone.
 LISTED = (
     ("errors", "InvalidStore", ("index",)),
     ("errors", "InvalidQuestion", ("part",)),
@@ -69,15 +69,29 @@ LISTED = (
     ("mends", "with_choice", ("program", "options", "choice")),
     ("mends", "keeps_wish", ("kinds", "program", "wish", "ban", "*", "tries")),
     ("mends", "cheapest_mend", ("kinds", "program", "wishes", "options", "ban", "*", "tries")),
+    ("claims", "require_claim", ("claim",)),
+    ("claims", "decide", ("claim", "*", "tries")),
+    ("checker", "first_fault", ("certificate",)),
+    ("desks", "Desk", ("kinds", "ban", "*", "first", "tries")),
+    ("texts", "format_question", ("question",)),
+    ("texts", "format_program", ("program",)),
+    ("texts", "parse_question", ("kinds", "text")),
+    ("texts", "parse_program", ("kinds", "text")),
 )
+# The methods that the interface lists for the class Desk, with their arguments; for signs the names are free.
+METHODS_OF_DESK = {
+    "do": ("program",), "would": ("program",), "ask": ("question",), "ask_after": ("program", "question"),
+    "is_safe": ("program",), "adopt": ("certificate",), "adopted": (), "store": (), "ban": (), "kinds": (), "turns": (),
+    "undo": (), "back_to": ("count",), "twin": (), "__contains__": None, "__eq__": None, "__len__": (), "__iadd__": None,
+}
 # The values of arguments that are not given.
-DEFAULTS = {"tries": 300}
+DEFAULTS = {"tries": 300, "first": ()}
 # LANGUAGE.md, L8: the builtins that may be used, as far as the package does; L25: the methods of builtin values.
 BUILTINS = ("len", "range", "enumerate", "zip", "min", "max", "sum", "abs", "sorted", "reversed", "int", "str", "bool",
             "list", "tuple", "dict", "set", "isinstance", "any", "all", "type", "ValueError", "RuntimeError",
             "OverflowError")
-METHODS = {"add", "append", "clear", "copy", "count", "extend", "get", "index", "insert", "items", "keys", "pop", "setdefault",
-           "update", "values"}
+METHODS = {"add", "append", "clear", "copy", "count", "endswith", "extend", "get", "index", "insert", "items", "join", "keys",
+           "partition", "pop", "setdefault", "split", "startswith", "update", "values"}
 # LANGUAGE.md, L2 The library: nothing else from outside may be imported.
 OUTSIDE = ("__future__", "heapq", "math", "itertools", "collections")
 
@@ -110,7 +124,18 @@ class InterfaceTest(unittest.TestCase):
                 for place, each in enumerate(parameters):
                     by_place = inspect.Parameter.POSITIONAL_OR_KEYWORD
                     self.assertEqual(each.kind, by_place if place < free else inspect.Parameter.KEYWORD_ONLY)
-                    self.assertEqual(each.default, DEFAULTS.get(each.name, inspect.Parameter.empty))
+                    default = DEFAULTS.get(each.name, inspect.Parameter.empty) if place >= free else each.empty
+                    self.assertEqual(each.default, default)
+
+    def test_methods(self):
+        tree = ast.parse(source("desks.py"))
+        (desk,) = [node for node in tree.body if isinstance(node, ast.ClassDef)]
+        defined = {node.name: node for node in desk.body if isinstance(node, ast.FunctionDef)}
+        for name, arguments in METHODS_OF_DESK.items():
+            self.assertIn(name, defined)
+            names = tuple(each.arg for each in defined[name].args.args)
+            self.assertEqual(names[0], "self")
+            self.assertEqual(len(names) - 1 if arguments is None else names[1:], 1 if arguments is None else arguments)
 
 
 class FilesTest(unittest.TestCase):
