@@ -91,10 +91,11 @@ class Desk:
         if fault is not None:
             raise Unfounded(fault)
         verdict, claim, _ = certificate
-        if verdict != SHOWN or claim[0] != "kept" or claim != ("kept", self._kinds, self._ban, claim[3], self._ban):
+        program = claim[3]
+        if verdict != SHOWN or claim != ("kept", self._kinds, self._ban, program, self._ban):
             raise Unfounded(("other",))
-        if claim[3] not in self._adopted:
-            self._adopted.append(claim[3])
+        if program not in self._adopted:
+            self._adopted.append(program)
 
     def adopted(self):
         """The tuple of the adopted programs, in the order of adopting."""
@@ -118,8 +119,7 @@ class Desk:
 
     def undo(self):
         """Take the last turn back; raise NothingDone."""
-        if not self._programs:
-            raise NothingDone()
+        # Without turns this would be -1, which is no number of turns to go back to.
         self.back_to(len(self._programs) - 1)
 
     def back_to(self, count):

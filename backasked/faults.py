@@ -75,7 +75,7 @@ def fault_of_hits(hits, first, second, ban):
     """The first fault of hits for a question within another one; of the questions None stands for no shift."""
     if first is None or second is None:
         return NO_FORM
-    ways = ways_by_part(first, known_by((first, second, ban)), MOST_TRIES)
+    ways = ways_by_part(first[1], known_by((first, second, ban)), MOST_TRIES)
     if ways is None or not have_form(hits, ways, second, ban):
         return NO_FORM
     for index, part in enumerate(first[1]):

@@ -12,16 +12,41 @@ def things_by_kind(facts):
     return found
 
 
-def chosen_for(body, unlike, chosen, facts):
-    """What is chosen and, for the other variables of a body, a choice with which its atoms are facts; None if none."""
-    if not body:
+def longer_with(terms, things, unlike, chosen):
+    """What is chosen, and what makes the terms the things besides; None if they, or a pair, cannot be so."""
+    longer = matched(terms, things, chosen)
+    # A variable without a thing stays itself and is unlike all things, so this looks only at pairs with things.
+    return longer if longer is not None and are_unlike(unlike, longer) else None
+
+
+def is_alone(place, body, unlike, chosen):
+    """Whether no variable of an atom for which nothing is chosen stands in another atom of the body or in a pair."""
+    others = [terms for _, terms in body[:place] + body[place + 1:]] + list(unlike)
+    free = [term for term in body[place][1] if term < 0 and term not in chosen]
+    return not any([term in row for row in others for term in free])
+
+
+def rows_for(body, unlike, chosen, facts):
+    """For each atom of a body (terms, things): the things of the facts that it may be, the atom with fewest first."""
+    rows = []
+    for place, (kind, terms) in enumerate(body):
+        fits = [things for things in facts.get(kind, ()) if longer_with(terms, things, unlike, chosen) is not None]
+        if not fits:
+            return None
+        # Where nothing hangs on what an atom is, one of the facts is as good as all of them.
+        rows.append((terms, fits[:1] if is_alone(place, body, unlike, chosen) else fits))
+    return sorted(rows, key=lambda row: len(row[1]))
+
+
+def chosen_for(rows, unlike, chosen):
+    """What is chosen and, for the other variables of rows, a choice with which all are facts; None if none."""
+    if not rows:
         return chosen
-    kind, terms = body[0]
-    for things in facts.get(kind, ()):
-        longer = matched(terms, things, chosen)
-        # A variable without a thing stays itself and is unlike all things, so this looks only at pairs with things.
-        if longer is not None and are_unlike(unlike, longer):
-            found = chosen_for(body[1:], unlike, longer, facts)
+    terms, fits = rows[0]
+    for things in fits:
+        longer = longer_with(terms, things, unlike, chosen)
+        if longer is not None:
+            found = chosen_for(rows[1:], unlike, longer)
             if found is not None:
                 return found
     return None
@@ -33,10 +58,13 @@ def values_with_head(part, head, facts):
     # Most parts that do not hold lack a kind: this saves looking for the atoms before the one that lacks.
     if not all([kind in facts for kind, _ in body]):
         return None
-    chosen = matched(asked, head, {})
-    if chosen is None or not are_unlike(unlike, chosen):
+    chosen = longer_with(asked, head, unlike, {})
+    if chosen is None:
         return None
-    found = chosen_for(body, unlike, chosen, facts)
+    rows = rows_for(body, unlike, chosen, facts)
+    if rows is None:
+        return None
+    found = chosen_for(rows, unlike, chosen)
     return None if found is None else put_in(variables_of(part), found)
 
 

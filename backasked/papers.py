@@ -1,7 +1,7 @@
 """What comparisons tell, with the papers that show it: hits for all ways, or a store on which it is not so."""
 
 from backasked.answers import head_with
-from backasked.comparing import compared
+from backasked.comparing import compared_questions
 from backasked.leading import led_back
 from backasked.questions import no_ban, question_of
 from backasked.ways import facts_of
@@ -12,7 +12,7 @@ BROKEN = "broken"
 
 def within_paper(first, second, ban, tries):
     """The verdict whether a question is within another one, and its paper."""
-    parting, hits = compared(first, second, ban, tries)
+    parting, hits = compared_questions(first, second, ban, tries)
     if parting is None:
         return (SHOWN, hits)
     index, values = parting

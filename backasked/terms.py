@@ -13,9 +13,8 @@ def atoms_with(atoms, chosen):
 
 def are_unlike(pairs, chosen):
     """Whether the two terms of each pair are unlike, with what is chosen put in for them."""
-    for pair in pairs:
-        one, other = put_in(pair, chosen)
-        if one == other:
+    for one, other in pairs:
+        if chosen.get(one, one) == chosen.get(other, other):
             return False
     return True
 

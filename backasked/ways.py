@@ -40,11 +40,11 @@ def ways_of(part, known):
     yield from ways_after(variables, unlike, known, ())
 
 
-def ways_by_part(question, known, most):
-    """For each part of a question the tuple of its ways; None if there are more than most, all parts together."""
+def ways_by_part(parts, known, most):
+    """For each of some parts the tuple of its ways; None if there are more than most, all parts together."""
     found = []
     total = 0
-    for part in question[1]:
+    for part in parts:
         of_part = []
         for values in ways_of(part, known):
             # Nothing is looked at behind the limit: a part may have millions of ways.

@@ -3,13 +3,13 @@
 import unittest
 
 from builders import KINDS, NO_LOOPS, ban_of, part_of, question_of_parts, unary
+from cases import LimitCase
 from literal import literal_alike, literal_parting, outcome
 from models import Draws, model_answers, model_ways, stores_over
 from variations import Unchanged, shape
 
 from backasked.answers import keeps
 from backasked.comparing import are_alike, is_within, parting
-from backasked.errors import LimitExceeded
 from backasked.questions import known_by, no_ban
 from backasked.ways import facts_of
 
@@ -30,17 +30,12 @@ THOUSAND = question_of_parts(
     0, WAYS[877], WAYS[52], part_of((0, (-1, -2)), (0, (-3, -4)), (1, (-5,))), WAYS[15], WAYS[2], part_of((0, (-1, -2))))
 
 
-class ComparingCase(unittest.TestCase):
+class ComparingCase(LimitCase):
     def assert_parting(self, first, second, ban, expected, **more):
         with Unchanged(self, first, second, ban):
             self.assertEqual(shape(parting(first, second, ban, **more)), shape(expected))
             self.assertIs(is_within(first, second, ban, **more), expected is None)
         self.assertEqual(literal_parting(first, second, ban, **more), expected)
-
-    def assert_limit(self, call, *arguments, **more):
-        with Unchanged(self, *arguments), self.assertRaises(LimitExceeded) as caught:
-            call(*arguments, **more)
-        self.assertEqual(shape(caught.exception.limit), shape(more.get("tries", 300)))
 
 
 class WithinTest(ComparingCase):

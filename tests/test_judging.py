@@ -3,12 +3,12 @@
 import unittest
 
 from builders import DROP, KINDS, LOOPS, NO_LOOPS, SWAP, ban_of, part_of, put, question_of_parts, take, turn, unary
+from cases import LimitCase
 from literal import left_out, literal_kept, literal_same, literal_untouched, outcome
 from models import Draws, model_answers, model_run, stores_over
 from variations import Unchanged, shape
 
 from backasked.answers import keeps
-from backasked.errors import LimitExceeded
 from backasked.judging import are_same, can_exchange, is_idle, is_kept, is_settled, is_untouched
 from backasked.questions import no_ban, question_of
 
@@ -16,15 +16,10 @@ TERMS = (-1, -2, 0)
 SIX = unary(-1, -2, -3, -4, -5, -6)
 
 
-class JudgingCase(unittest.TestCase):
+class JudgingCase(LimitCase):
     def assert_says(self, call, arguments, expected, **more):
         with Unchanged(self, *arguments):
             self.assertIs(call(*arguments, **more), expected, arguments)
-
-    def assert_limit(self, call, *arguments, **more):
-        with Unchanged(self, *arguments), self.assertRaises(LimitExceeded) as caught:
-            call(*arguments, **more)
-        self.assertEqual(shape(caught.exception.limit), shape(more.get("tries", 300)))
 
 
 class KeptTest(JudgingCase):

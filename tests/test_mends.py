@@ -184,6 +184,7 @@ class OptionsTest(RequireCase):
         self.assert_no_options(0, (("drop", 0, DROP, 1),))
         self.assert_no_options(0, (("put", 0, 1),))
         self.assert_no_options(0, (("drop", 0),))
+        self.assert_no_options(0, (("put", 0),))
         self.assert_no_options(0, (("put", 0, DROP, 1, 1),))
         self.assert_no_options(0, (("put", DROP, 0, 1),))
         self.assert_no_options(0, (put((1, (3,))),))

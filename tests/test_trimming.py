@@ -3,13 +3,13 @@
 import unittest
 
 from builders import DROP, KINDS, LOOPS, NO_LOOPS, ban_of, part_of, put, question_of_parts, take, turn, unary
+from cases import LimitCase
 from literal import conditions, literal_needless, literal_trimmed, outcome
 from models import Draws, model_answers, model_run, stores_over
 from variations import Unchanged, shape
 
 from backasked.answers import answers, keeps
 from backasked.comparing import are_alike
-from backasked.errors import LimitExceeded
 from backasked.leading import led_back
 from backasked.questions import no_ban, question_of, require_question
 from backasked.trimming import guard, is_needless, trimmed
@@ -18,7 +18,7 @@ DOUBLED = (1, (part_of((0, (-1, -2)), (0, (-1, -3)), head=(-1,)),))
 WIDE = (1, (part_of((0, (-1, -2)), head=(-1,)),))
 
 
-class TrimmingCase(unittest.TestCase):
+class TrimmingCase(LimitCase):
     def assert_needless(self, question, index, place, ban, expected, **more):
         with Unchanged(self, question, ban):
             self.assertIs(is_needless(question, index, place, ban, **more), expected)
@@ -28,11 +28,6 @@ class TrimmingCase(unittest.TestCase):
         with Unchanged(self, question, ban):
             self.assertEqual(shape(trimmed(question, ban, **more)), shape(expected))
         self.assertEqual(literal_trimmed(question, ban, **more), expected)
-
-    def assert_limit(self, call, *arguments, **more):
-        with Unchanged(self, *arguments), self.assertRaises(LimitExceeded) as caught:
-            call(*arguments, **more)
-        self.assertEqual(shape(caught.exception.limit), shape(more.get("tries", 300)))
 
 
 class NeedlessTest(TrimmingCase):
